@@ -1,0 +1,1 @@
+"""Emptyhall: people who leave a house by its ways, minute by minute."""
