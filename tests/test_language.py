@@ -64,6 +64,15 @@ def bound_names(node):
     return []
 
 
+def top_names(node):
+    """The names that a row at a file's top binds."""
+    if isinstance(node, ast.ImportFrom):
+        return [alias.name for alias in node.names]
+    if isinstance(node, ast.Assign):
+        return [target.id for target in node.targets]
+    return bound_names(node)
+
+
 class Language(unittest.TestCase):
     def test_only_plainly_named_files_lie_in_the_package(self):
         there = sorted(path.name for path in PACKAGE.iterdir() if path.name != "__pycache__")
@@ -147,6 +156,49 @@ class Language(unittest.TestCase):
             if isinstance(node, ast.Attribute) and isinstance(node.ctx, ast.Store):
                 values.append(node.attr)
         self.assertEqual(set(methods) & set(values), set())
+
+    def test_the_top_of_a_file(self):
+        for path in files():
+            body = ast.parse(path.read_text("utf-8")).body
+            for node in body:
+                where = f"{path.name}:{node.lineno}"
+                kinds = (ast.Expr, ast.ImportFrom, ast.FunctionDef, ast.ClassDef, ast.Assign)
+                self.assertIsInstance(node, kinds, where)
+                if isinstance(node, ast.Expr):
+                    self.assertTrue(isinstance(node.value, ast.Constant) and isinstance(node.value.value, str), where)
+                if isinstance(node, ast.Assign):
+                    ast.literal_eval(node.value)
+            names = [name for node in body for name in top_names(node)]
+            self.assertEqual(len(names), len(set(names)), path.name)
+
+    def test_what_is_walked_at_once_is_not_kept(self):
+        walked = ("zip", "enumerate", "reversed", "range", "items", "keys", "values", "set")
+        for where, node in nodes():
+            if isinstance(node, (ast.Assign, ast.Return, ast.AugAssign)) and isinstance(node.value, ast.Call):
+                called = node.value.func
+                name = called.id if isinstance(called, ast.Name) else called.attr
+                self.assertNotIn(name, walked, where)
+
+    def test_no_two_files_draw_from_one_another(self):
+        drawn = {}
+        for path in files():
+            imports = [node for node in ast.parse(path.read_text("utf-8")).body if isinstance(node, ast.ImportFrom)]
+            drawn["emptyhall." + path.stem] = [node.module for node in imports]
+        # Taken away one after another, the files that draw from none that is left must be all of them.
+        while drawn:
+            ended = [name for name, sources in drawn.items() if not set(sources) & set(drawn)]
+            self.assertNotEqual(ended, [], drawn)
+            drawn = {name: sources for name, sources in drawn.items() if name not in ended}
+
+    def test_pythons_value_error_is_taken_round_int_alone(self):
+        for where, node in nodes():
+            if isinstance(node, ast.Try):
+                taken = [handler.type.id for handler in node.handlers]
+                self.assertFalse(set(taken) & {"Exception", "TypeError", "AttributeError"}, where)
+                if "ValueError" in taken:
+                    inner = [part for row in node.body for part in ast.walk(row)]
+                    called = [part.func.id for part in inner if isinstance(part, ast.Call)]
+                    self.assertEqual((len(node.body), called), (1, ["int"]), where)
 
 
 if __name__ == "__main__":
